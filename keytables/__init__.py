@@ -1,0 +1,1 @@
+"""Keytables: tables whose columns hang on one another."""
