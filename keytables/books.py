@@ -1,6 +1,6 @@
 """Books: a head of columns, and the hangings that are told of it."""
 
-from keytables.errors import NoBook
+from keytables.errors import NoBook, NoHanging, NoSet, Unlike
 from keytables.sets import is_set, lies_in
 
 MOST_HANGINGS = 12
@@ -24,6 +24,24 @@ def need_book(thing):
     """Refuse what is no book."""
     if not is_book(thing):
         raise NoBook("a book is a tuple of a head and a rising tuple of at most twelve hangings of it")
+
+
+def need_hanging(head, thing):
+    """Refuse what is no hanging of a head."""
+    if not is_hanging_of(head, thing):
+        raise NoHanging("a hanging is a tuple of two sets that lie in the head")
+
+
+def need_set_of(head, thing):
+    """Refuse what is no set that lies in a head."""
+    if not is_set_of(head, thing):
+        raise NoSet("a set of columns that the head has is wanted")
+
+
+def need_one_head(one, other):
+    """Refuse two heads that are not one."""
+    if one != other:
+        raise Unlike("the two have unlike heads")
 
 
 def is_head(thing):

@@ -33,7 +33,9 @@ def lacked(one, other):
 
 def lies_in(one, other):
     """Tell whether the second set has all columns of the first one."""
-    return lacked(one, other) == ""
+    need_set(one)
+    need_set(other)
+    return is_within(one, other)
 
 
 def need_set(thing):
@@ -45,3 +47,22 @@ def need_set(thing):
 def set_of(text):
     """Make the set of the columns that occur in a text."""
     return "".join([column for column in COLUMNS if column in text])
+
+
+def is_within(one, other):
+    """Tell of what are surely sets whether the first lies in the second."""
+    # Covers ask this so often that to look at both sets each time anew would be most of the work.
+    return all([column in other for column in one])
+
+
+def one_fewer(some):
+    """List the sets that lack just one column of a set."""
+    return [some.replace(column, "") for column in some]
+
+
+def sets_in(some):
+    """List all sets that lie in a set, rising."""
+    told = [""]
+    for column in some:
+        told = told + [one + column for one in told]
+    return sorted(told)

@@ -1,27 +1,56 @@
 """Promise 2: nothing that is handed in is changed or kept, and asked the same again, the same is told."""
 
 import copy
-import itertools
 import unittest
 
 from keytables.books import is_book, is_hanging
+from keytables.covers import cover, follows, shut_sets
 from keytables.errors import TableError
+from keytables.likes import alike, first_unlike
+from keytables.papers import is_paper, paper_of, two_rows
 from keytables.sets import both, either, is_set, lacked, lies_in
-from things import ALL, BOOKS, NO_BOOKS, NO_HANGINGS, NO_SETS
+from keytables.tables import agreements, first_broken, is_table, keeps
+from things import ALL, BOOKS, NO_BOOKS, NO_HANGINGS, NO_SETS, NO_TABLES, TABLES
 
-SOME = [*NO_SETS, *NO_BOOKS, *NO_HANGINGS, *BOOKS, "", "a", ALL]
-ONES = [is_set, is_book]
-PAIRS = [(both, "abc"), (either, "abc"), (lacked, "abc"), (lies_in, "abc"), (is_hanging, ("abc", (("a", "b"),)))]
+BOOK = ("abc", (("a", "b"), ("b", "c")))
+TABLE = ("abc", ((0, 0, 0), (0, 1, 0), (1, 1, 1)))
+HANGING = ("a", "c")
+PAPER = ((("a", "b"), ("given", 0)), (("b", "c"), ("given", 1)), (HANGING, ("on", 0, 1)))
+SOME = [*NO_SETS, *NO_BOOKS, *NO_HANGINGS, *NO_TABLES, *BOOKS, *TABLES, BOOK, TABLE, HANGING, PAPER, "", "a", ALL]
+
+# Each question with good things for its places, the refusals that it may tell, and the kinds of its answers.
+QUESTIONS = [
+    (is_set, ("abc",), [], [bool]),
+    (both, ("abc", "bd"), ["NoSet"], [str]),
+    (either, ("abc", "bd"), ["NoSet"], [str]),
+    (lacked, ("abc", "bd"), ["NoSet"], [str]),
+    (lies_in, ("abc", "bd"), ["NoSet"], [bool]),
+    (is_book, (BOOK,), [], [bool]),
+    (is_hanging, (BOOK, HANGING), ["NoBook"], [bool]),
+    (follows, (BOOK, HANGING), ["NoBook", "NoHanging"], [bool]),
+    (cover, (BOOK, "a"), ["NoBook", "NoSet"], [str]),
+    (shut_sets, (BOOK,), ["NoBook"], [list]),
+    (alike, (BOOK, BOOK), ["NoBook"], [bool]),
+    (first_unlike, (BOOK, BOOK), ["NoBook", "Unlike"], [tuple, type(None)]),
+    (is_paper, (BOOK, PAPER), ["NoBook"], [bool]),
+    (paper_of, (BOOK, HANGING), ["NoBook", "NoHanging"], [tuple, type(None)]),
+    (two_rows, (BOOK, HANGING), ["NoBook", "NoHanging"], [tuple, type(None)]),
+    (is_table, (TABLE,), [], [bool]),
+    (first_broken, (TABLE, HANGING), ["NoTable", "NoHanging"], [tuple, type(None)]),
+    (keeps, (TABLE, BOOK), ["NoTable", "NoBook", "Unlike"], [bool]),
+    (agreements, (TABLE,), ["NoTable"], [list]),
+]
 
 
 def asks():
-    """Each question of stage 1 with good and bad things in each of its places."""
-    for question, thing in itertools.product(ONES, SOME):
-        yield question, (thing,)
-    for (question, good), thing in itertools.product(PAIRS, SOME):
-        yield question, (good, thing)
-        yield question, (thing, good)
-        yield question, (thing, thing)
+    """Each question with good and bad things in each of its places."""
+    for question, good, refusals, kinds in QUESTIONS:
+        yield question, good
+        for thing in SOME:
+            yield question, (thing,) * len(good)
+            if len(good) == 2:
+                yield question, (good[0], thing)
+                yield question, (thing, good[1])
 
 
 def answer(question, things):
@@ -54,11 +83,35 @@ class HandedIn(unittest.TestCase):
         self.assertIs(is_book(("ab", tuple(hangings))), False)
 
     def test_nothing_but_the_refusals_told_is_raised(self):
-        refusals = {both: "NoSet", either: "NoSet", lacked: "NoSet", lies_in: "NoSet", is_hanging: "NoBook"}
+        refusals = {question: names for question, good, names, kinds in QUESTIONS}
         for question, things in asks():
             told = answer(question, things)
             if told[0] == "refused":
-                self.assertEqual(told[1], refusals[question], things)
+                self.assertIn(told[1], refusals[question], things)
+
+    def test_answers_are_of_the_kinds_that_the_interface_lists(self):
+        wanted = {question: kinds for question, good, names, kinds in QUESTIONS}
+        for question, things in asks():
+            told = answer(question, things)
+            if told[0] == "told":
+                self.assertIn(type(told[2]), wanted[question], question.__name__)
+
+    def test_good_things_are_not_refused(self):
+        for question, good, names, kinds in QUESTIONS:
+            self.assertEqual(answer(question, good)[0], "told", question.__name__)
+
+
+class Told(unittest.TestCase):
+    def test_a_told_list_is_the_askers_own(self):
+        for question, good, names, kinds in QUESTIONS:
+            told = question(*good)
+            if isinstance(told, list):
+                with self.subTest(question=question.__name__):
+                    ahead = list(told)
+                    self.assertIsNot(question(*good), told)
+                    told.reverse()
+                    told.append(None)
+                    self.assertEqual(question(*good), ahead)
 
 
 if __name__ == "__main__":

@@ -169,3 +169,128 @@ NO_HANGINGS = NO_SETS + [
     ("a", {"a": 1}),
 ]
 NO_HANGINGS.remove(("a", "b"))
+
+# In each chain a hanging wants the one before: in the order of their numbers, and against it.
+RISING_CHAIN = (ALL, tuple((ALL[k], ALL[k + 1]) for k in range(7)))
+FALLING_CHAIN = (ALL, tuple((ALL[k + 1], ALL[k]) for k in range(7)))
+# Here each wants all that came before it.
+GROWING_CHAIN = (ALL, tuple((ALL[:k], ALL[k]) for k in range(8)))
+SHRINKING_CHAIN = (ALL, tuple(sorted((ALL[k + 1:], ALL[k]) for k in range(8))))
+# Each column tells the next one, and the last the first: each is a key.
+RING = (ALL, tuple(sorted((ALL[k], ALL[(k + 1) % 8]) for k in range(8))))
+# Four pairs of columns that tell one another: a key has one of each, so there are sixteen.
+PAIRS = (ALL, tuple(sorted(pair for k in range(0, 8, 2) for pair in [(ALL[k], ALL[k + 1]), (ALL[k + 1], ALL[k])])))
+CHAINS = [RISING_CHAIN, FALLING_CHAIN, GROWING_CHAIN, SHRINKING_CHAIN, RING, PAIRS]
+
+LONGEST = 10 ** 30 - 1
+
+TABLES = [
+    ("a", ()),
+    ("h", ((0,),)),
+    ("a", ((-LONGEST,), (0,), (LONGEST,))),
+    ("ab", ((0, 0), (0, 1), (1, 0))),
+    ("bdf", ((-1, 20, 3), (0, -LONGEST, LONGEST), (0, 20, 3), (7, 20, 4))),
+    ("a", tuple((number,) for number in range(80))),
+    (ALL, ()),
+    (ALL, tuple(tuple([number // 4] * 4 + [number] * 4) for number in range(-40, 40))),
+]
+
+NO_TABLES = NO_TEXTS + [
+    "",
+    "a",
+    "ab: -1,20 3,4",
+    # the number of parts
+    ("a",),
+    ("a", (), ()),
+    ("a", ((1,),), ()),
+    # lists in the place of tuples, at each depth
+    ["a", ()],
+    ("a", []),
+    ("a", [(1,)]),
+    ("a", ([1],)),
+    ("a", ((1,), [2])),
+    ("a", ([1], (2,))),
+    ("a", (([1],),)),
+    ["a", [[1]]],
+    # the head
+    ("", ()),
+    ("", ((),)),
+    ("ba", ()),
+    ("ba", ((1, 2),)),
+    ("aa", ((1, 2),)),
+    ("abi", ()),
+    ("A", ()),
+    ("a ", ((1,),)),
+    (None, ()),
+    (1, ()),
+    (True, ((1,),)),
+    (("a",), ((1,),)),
+    (["a"], ()),
+    ({"a": 1}, ()),
+    ((), "a"),
+    # the rows
+    ("a", None),
+    ("a", 0),
+    ("a", True),
+    ("a", ""),
+    ("a", "1"),
+    ("a", {}),
+    ("a", {(1,): True}),
+    ("a", (1,)),
+    ("a", (1, 2)),
+    ("a", ("1",)),
+    ("a", (None,)),
+    ("a", ({},)),
+    ("a", ({0: 1},)),
+    ("a", tuple((number,) for number in range(81))),
+    ("a", ((1,),) * 999),
+    # their length
+    ("a", ((),)),
+    ("a", ((1, 2),)),
+    ("ab", ((1,),)),
+    ("ab", ((1, 2, 3),)),
+    ("ab", ((1, 2), (3,))),
+    ("ab", ((1,), (1, 2))),
+    # their order
+    ("a", ((2,), (1,))),
+    ("a", ((1,), (1,))),
+    ("a", ((1,), (2,), (2,))),
+    ("a", ((1,), (3,), (2,))),
+    ("a", ((0,), (-1,))),
+    ("ab", ((0, 1), (0, 0))),
+    ("ab", ((0, 1), (1, 0), (1, 0))),
+    # their numbers
+    ("a", ((LONGEST + 1,),)),
+    ("a", ((-LONGEST - 1,),)),
+    ("ab", ((0, LONGEST), (1, LONGEST + 1))),
+    ("a", ((True,),)),
+    ("a", ((False,),)),
+    ("ab", ((0, True),)),
+    ("ab", ((False, 1),)),
+    ("ab", ((0, 0), (0, True))),
+    ("a", ((None,),)),
+    ("a", (("",),)),
+    ("a", (("1",),)),
+    ("a", (((1,),),)),
+    ("a", (({},),)),
+    # things of unlike kinds, which Python cannot compare
+    ("a", ((1,), ("2",))),
+    ("a", ((None,), (1,))),
+    ("a", ((1,), None)),
+    ("a", (None, (1,))),
+    ("ab", ((1, 2), (1, None))),
+    # a book with hangings
+    ("ab", (("a", "b"),)),
+]
+
+# What is none of any head, and what has columns that the head "bdf" lacks.
+NO_SETS_OF_BDF = NO_SETS + ["a", "c", "h", "ab", "bc", "bdfh", "abdf", ALL]
+NO_HANGINGS_OF_BDF = NO_HANGINGS + [
+    ("a", "b"),
+    ("b", "a"),
+    ("bcd", "b"),
+    ("b", "bcd"),
+    ("", "h"),
+    ("h", ""),
+    ("c", "c"),
+]
