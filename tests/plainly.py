@@ -73,6 +73,15 @@ def breaking(table, hanging):
     return sorted(told)
 
 
+def is_kept(table, hanging):
+    """Whether what the rows have in the left tells what they have in the right."""
+    head, rows = table
+    told = {}
+    for row in rows:
+        told.setdefault(at(head, row, hanging[0]), set()).add(at(head, row, hanging[1]))
+    return all(len(rights) == 1 for rights in told.values())
+
+
 def least_of(head, holds):
     """The hangings of a column on a set that lacks it that hold, and do not with any lesser left."""
     held = {}

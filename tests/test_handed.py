@@ -6,8 +6,11 @@ import unittest
 from keytables.books import is_book, is_hanging
 from keytables.covers import cover, follows, shut_sets
 from keytables.errors import TableError
+from keytables.keys import is_key, is_wide, key_columns, keys, least_key, many_wide
+from keytables.least import direct, idle, slimmed
 from keytables.likes import alike, first_unlike
 from keytables.papers import is_paper, paper_of, two_rows
+from keytables.seen import full_table, seen
 from keytables.sets import both, either, is_set, lacked, lies_in
 from keytables.tables import agreements, first_broken, is_table, keeps
 from things import ALL, BOOKS, NO_BOOKS, NO_HANGINGS, NO_SETS, NO_TABLES, TABLES
@@ -39,6 +42,17 @@ QUESTIONS = [
     (first_broken, (TABLE, HANGING), ["NoTable", "NoHanging"], [tuple, type(None)]),
     (keeps, (TABLE, BOOK), ["NoTable", "NoBook", "Unlike"], [bool]),
     (agreements, (TABLE,), ["NoTable"], [list]),
+    (seen, (TABLE,), ["NoTable"], [list]),
+    (full_table, (BOOK,), ["NoBook", "TooWide"], [tuple]),
+    (keys, (BOOK,), ["NoBook"], [list]),
+    (key_columns, (BOOK,), ["NoBook"], [str]),
+    (many_wide, (BOOK,), ["NoBook"], [int]),
+    (least_key, (BOOK,), ["NoBook"], [str]),
+    (is_wide, (BOOK, "a"), ["NoBook", "NoSet"], [bool]),
+    (is_key, (BOOK, "a"), ["NoBook", "NoSet"], [bool]),
+    (idle, (BOOK,), ["NoBook"], [list]),
+    (slimmed, (BOOK,), ["NoBook"], [tuple]),
+    (direct, (BOOK,), ["NoBook"], [list]),
 ]
 
 
