@@ -38,6 +38,13 @@ def need_set_of(head, thing):
         raise NoSet("a set of columns that the head has is wanted")
 
 
+def need_columns_of(head, thing):
+    """Refuse what is no set with a column at least that lies in a head."""
+    need_set_of(head, thing)
+    if thing == "":
+        raise NoSet("a set with a column at least is wanted")
+
+
 def need_one_head(one, other):
     """Refuse two heads that are not one."""
     if one != other:

@@ -1,7 +1,7 @@
 """What follows from a book: covers, and the sets that are shut."""
 
 from keytables.books import need_book, need_hanging, need_set_of
-from keytables.sets import is_within, one_fewer, set_of, sets_in
+from keytables.sets import both, is_within, one_fewer, set_of, sets_in
 
 
 def follows(book, hanging):
@@ -46,6 +46,11 @@ def grown(hangings, some):
         if is_within(left, some):
             some = set_of(some + right)
     return some
+
+
+def covers_in(hangings, whole):
+    """Make the dict from each set that lies in a whole to what its cover has of the whole's columns."""
+    return {some: both(cover_by(hangings, some), whole) for some in sets_in(whole)}
 
 
 def least_hangings(covers):

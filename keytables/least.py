@@ -1,8 +1,7 @@
 """Least forms of a book: without idle hangings, and by the least hangings that follow."""
 
 from keytables.books import need_book
-from keytables.covers import cover_by, follows_by, least_hangings
-from keytables.sets import sets_in
+from keytables.covers import covers_in, follows_by, least_hangings
 
 
 def idle(book):
@@ -27,7 +26,7 @@ def slimmed(book):
 def direct(book):
     """Tell the rising list of the least hangings that follow from a book."""
     need_book(book)
-    return least_hangings({some: cover_by(book[1], some) for some in sets_in(book[0])})
+    return least_hangings(covers_in(book[1], book[0]))
 
 
 def is_idle(hangings, k):

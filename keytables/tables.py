@@ -60,18 +60,20 @@ def is_row_of(head, thing):
 def first_breaking(table, hanging):
     """Tell the first pair of numbers of rows that are the same in the left and not in the right, or None."""
     head, rows = table
-    lefts = [numbers_in(head, row, hanging[0]) for row in rows]
-    rights = [numbers_in(head, row, hanging[1]) for row in rows]
-    for i in range(len(rows)):
-        for j in range(i + 1, len(rows)):
-            if lefts[i] == lefts[j] and rights[i] != rights[j]:
-                return i, j
-    return None
+    left, right = hanging
+    firsts = {}
+    pairs = []
+    for j, row in enumerate(rows):
+        # Where two rows with one left are unlike in the right, one of them is unlike the first row with that left.
+        i = firsts.setdefault(numbers_in(head, row, left), j)
+        if numbers_in(head, rows[i], right) != numbers_in(head, row, right):
+            pairs.append((i, j))
+    return min(pairs, default=None)
 
 
 def numbers_in(head, row, some):
-    """List the numbers that a row has in the columns of a set."""
-    return [number for column, number in zip(head, row) if column in some]
+    """Make the tuple of the numbers that a row has in the columns of a set."""
+    return tuple([number for column, number in zip(head, row) if column in some])
 
 
 def row_beside(head, some, number):

@@ -56,6 +56,22 @@ def does_follow(book, hanging):
     return all(lies(right, some) for some in agreeing(book) if lies(left, some))
 
 
+def own_covers(book, whole):
+    """Of each set that lies in a whole the columns of the whole that hang on it."""
+    return {some: "".join(c for c in whole if does_follow(book, (some, c))) for some in sets_of(whole)}
+
+
+def stems_by(covers):
+    """The stems by the covers of all sets of some columns, each with its cover: the document's own words."""
+
+    @functools.cache
+    def is_stem(some):
+        return covers[some] != some and all(lies(covers[one], some) for one in lesser(some) if is_stem(one))
+
+    # The smaller ones first, so that no set is asked of deep in others.
+    return sorted((some, covers[some]) for some in sorted(covers, key=len) if is_stem(some))
+
+
 def at(head, row, some):
     """What a row has in the columns of a set."""
     return tuple(row[head.index(column)] for column in some)
@@ -89,6 +105,77 @@ def least_of(head, holds):
         held[left, right] = right not in left and holds((left, right))
     return [hanging for hanging in sorted(held) if held[hanging] and not any(
         held[left, hanging[1]] for left in lesser(hanging[0]))]
+
+
+def part_of(table, some):
+    head, rows = table
+    return some, tuple(sorted({at(head, row, some) for row in rows}))
+
+
+def join_of(tables):
+    """The table of all rows whose parts are in all the tables: they grow by a column at a time, each as it may."""
+    head = "".join(sorted(set().union(*[table[0] for table in tables])))
+    begun = [()]
+    for many in range(1, len(head) + 1):
+        numbers = {number for columns, rows in tables for row in rows for number in row}
+        begun = [(*row, number) for row in begun for number in sorted(numbers)]
+        for table in tables:
+            some = "".join(column for column in head[:many] if column in table[0])
+            parts = {at(table[0], row, some) for row in table[1]}
+            begun = [row for row in begun if at(head, row, some) in parts]
+    return head, tuple(begun)
+
+
+def begin_fill(head, split):
+    """The rows of a split, as lists, ahead of all filling."""
+    return [[0 if column in some else k + 1 for column in head] for k, some in enumerate(split)]
+
+
+def give_way(head, rows, right, i, j):
+    """Make two rows the same in the columns of a right."""
+    for column in right:
+        place = head.index(column)
+        low, high = sorted([rows[i][place], rows[j][place]])
+        for row in rows:
+            row[place] = low if row[place] == high else row[place]
+
+
+def alike_in(head, rows, some):
+    """The pairs of numbers of rows that are the same in a set."""
+    pairs = itertools.combinations(range(len(rows)), 2)
+    return [(i, j) for i, j in pairs if at(head, rows[i], some) == at(head, rows[j], some)]
+
+
+def filled_in_any_order(book, split, thrown):
+    """The filled rows, the next hanging and pair each time a thrown one of all that there are."""
+    head, hangings = book
+    rows = begin_fill(head, split)
+    while True:
+        todo = [(right, i, j) for left, right in hangings for i, j in alike_in(head, rows, left)
+                if at(head, rows[i], right) != at(head, rows[j], right)]
+        if not todo:
+            return [tuple(row) for row in rows]
+        give_way(head, rows, *todo[next(thrown) % len(todo)])
+
+
+def next_fill_steps(book, rows):
+    """All steps that a fill paper can have where the rows are as they are."""
+    head, hangings = book
+    return [(k, i, j) for k, (left, right) in enumerate(hangings) for i, j in alike_in(head, rows, left)]
+
+
+def is_good_fill(book, split, thing):
+    """Whether it is a fill paper, by all steps that there can be."""
+    head, hangings = book
+    rows = begin_fill(head, split)
+    if not isinstance(thing, tuple) or len(thing) not in range(601):
+        return False
+    for step in thing:
+        # Written out, so that True is no 1 and a list no tuple.
+        if repr(step) not in map(repr, next_fill_steps(book, rows)):
+            return False
+        give_way(head, rows, hangings[step[0]][1], *step[1:])
+    return [0] * len(head) in rows
 
 
 def next_steps(book, ahead):
@@ -161,3 +248,17 @@ def made_tables():
     """Tables of one to eight columns, without rows and with up to eighty."""
     sizes = itertools.product(range(1, 9), [(0, 1), (1, 1), (2, 2), (3, 2), (6, 2), (9, 3), (40, 3), (80, 40)])
     return [made_table(columns, many, most, 100 * columns + many) for columns, (many, most) in sizes]
+
+
+def made_split(head, many, seed):
+    """A split of a head into at most so many sets, and one more where a column is in none of them."""
+    thrown = dice(seed)
+    sets = sets_of(head)[1:]
+    told = {sets[next(thrown) % len(sets)] for turn in range(many)}
+    others = "".join(column for column in head if not any(column in some for some in told))
+    return tuple(sorted(told | {others} if others else told))
+
+
+def made_splits(head, seed):
+    """Splits of a head into one set and into many."""
+    return [(head,), tuple(head), *[made_split(head, many, seed + many) for many in [1, 2, 3, 4, 6, 9, 20]]]

@@ -6,20 +6,27 @@ import unittest
 from keytables.books import is_book, is_hanging
 from keytables.covers import cover, follows, shut_sets
 from keytables.errors import TableError
+from keytables.fills import fill_of, filled, is_fill, is_whole
+from keytables.joins import joined, part
 from keytables.keys import is_key, is_wide, key_columns, keys, least_key, many_wide
 from keytables.least import direct, idle, slimmed
 from keytables.likes import alike, first_unlike
+from keytables.narrow import narrowed
 from keytables.papers import is_paper, paper_of, two_rows
 from keytables.seen import full_table, seen
 from keytables.sets import both, either, is_set, lacked, lies_in
+from keytables.stems import stem_book
 from keytables.tables import agreements, first_broken, is_table, keeps
-from things import ALL, BOOKS, NO_BOOKS, NO_HANGINGS, NO_SETS, NO_TABLES, TABLES
+from things import ALL, BOOKS, NO_BOOKS, NO_HANGINGS, NO_SETS, NO_SPLITS_OF_BDF, NO_TABLES, TABLES
 
 BOOK = ("abc", (("a", "b"), ("b", "c")))
 TABLE = ("abc", ((0, 0, 0), (0, 1, 0), (1, 1, 1)))
 HANGING = ("a", "c")
 PAPER = ((("a", "b"), ("given", 0)), (("b", "c"), ("given", 1)), (HANGING, ("on", 0, 1)))
-SOME = [*NO_SETS, *NO_BOOKS, *NO_HANGINGS, *NO_TABLES, *BOOKS, *TABLES, BOOK, TABLE, HANGING, PAPER, "", "a", ALL]
+SPLIT = ("ab", "bc")
+FILL = ((1, 0, 1),)
+SOME = [*NO_SETS, *NO_BOOKS, *NO_HANGINGS, *NO_TABLES, *NO_SPLITS_OF_BDF, *BOOKS, *TABLES, BOOK, TABLE, HANGING, PAPER,
+        SPLIT, FILL, "", "a", ALL]
 
 # Each question with good things for its places, the refusals that it may tell, and the kinds of its answers.
 QUESTIONS = [
@@ -53,6 +60,14 @@ QUESTIONS = [
     (idle, (BOOK,), ["NoBook"], [list]),
     (slimmed, (BOOK,), ["NoBook"], [tuple]),
     (direct, (BOOK,), ["NoBook"], [list]),
+    (stem_book, (BOOK,), ["NoBook"], [tuple]),
+    (narrowed, (BOOK, "ac"), ["NoBook", "NoSet"], [list]),
+    (part, (TABLE, "ac"), ["NoTable", "NoSet"], [tuple]),
+    (joined, (TABLE, TABLE), ["NoTable", "TooMany"], [tuple]),
+    (filled, (BOOK, SPLIT), ["NoBook", "NoSplit"], [list]),
+    (is_whole, (BOOK, SPLIT), ["NoBook", "NoSplit"], [bool]),
+    (is_fill, (BOOK, SPLIT, FILL), ["NoBook", "NoSplit"], [bool]),
+    (fill_of, (BOOK, SPLIT), ["NoBook", "NoSplit"], [tuple, type(None)]),
 ]
 
 
@@ -62,9 +77,8 @@ def asks():
         yield question, good
         for thing in SOME:
             yield question, (thing,) * len(good)
-            if len(good) == 2:
-                yield question, (good[0], thing)
-                yield question, (thing, good[1])
+            for at in range(len(good)):
+                yield question, (*good[:at], thing, *good[at + 1:])
 
 
 def answer(question, things):

@@ -1,4 +1,6 @@
-"""What several tests hand in: things that are no text, no tuple, or deep and long, and books."""
+"""What several tests hand in: things that are no text, no tuple, or deep and long, books, tables and splits."""
+
+import itertools
 
 ALL = "abcdefgh"
 
@@ -293,4 +295,69 @@ NO_HANGINGS_OF_BDF = NO_HANGINGS + [
     ("", "h"),
     ("h", ""),
     ("c", "c"),
+]
+
+# The first sets with a column at least, one more of them than a split may have: together they have all columns.
+SIXTY_FIVE = tuple(sorted("".join(some) for many in range(1, 9) for some in itertools.combinations(ALL, many)))[:65]
+SIXTY_FOUR = SIXTY_FIVE[:64]
+
+# None of these is a split of the head "bdf".
+NO_SPLITS_OF_BDF = NO_TEXTS + [
+    "",
+    "bdf",
+    "bd/f",
+    # lists, dicts and others in the place of the tuple
+    ["bdf"],
+    ["b", "d", "f"],
+    {"bdf": True},
+    # lists and others in the place of a set
+    (["bdf"],),
+    (("bdf",),),
+    (("b", "d", "f"),),
+    ({"bdf": 1},),
+    (None,),
+    (0,),
+    (True,),
+    ("bdf", None),
+    (None, "bdf"),
+    ("bd", 7),
+    (7, "bd"),
+    ("bd", ["f"]),
+    (["bd"], "f"),
+    # a set twice, out of order
+    ("bdf", "bdf"),
+    ("b", "b", "d", "f"),
+    ("b", "df", "df"),
+    ("f", "bd"),
+    ("d", "b", "f"),
+    ("b", "f", "d"),
+    ("bf", "bd"),
+    # without columns
+    ("",),
+    ("", "bdf"),
+    ("", "b", "d", "f"),
+    ("b", "", "df"),
+    # with a column that the head lacks, and what is no set
+    ("a", "bdf"),
+    ("bdf", "h"),
+    ("bcdf",),
+    ("bd", "cf"),
+    ("bd", "f", "g"),
+    ("fdb",),
+    ("b", "fd"),
+    ("bb", "df"),
+    ("bd", "f "),
+    ("bd", "f\n"),
+    ("B", "bdf"),
+    ("-", "bdf"),
+    ("bd/f",),
+    # which together lack a column
+    ("b",),
+    ("bd",),
+    ("b", "d"),
+    ("b", "bd", "d"),
+    ("bf", "f"),
+    # too many
+    ("bdf",) * 65,
+    ("bdf",) * 999,
 ]
