@@ -56,6 +56,11 @@ def is_head(thing):
     return is_set(thing) and thing != ""
 
 
+def is_column_of(head, thing):
+    """Tell of a head and anything whether it is a column of the head."""
+    return is_set_of(head, thing) and len(thing) == 1
+
+
 def is_set_of(head, thing):
     """Tell of a head and anything whether it is a set that lies in the head."""
     return is_set(thing) and lies_in(thing, head)

@@ -1,6 +1,7 @@
 """Whole numbers: ints that are no truths."""
 
-# The least number of thirty-one figures.
+MOST_FIGURES = 30
+# The least number that has more.
 TOO_LONG = 10 ** 30
 
 

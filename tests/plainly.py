@@ -58,7 +58,7 @@ def does_follow(book, hanging):
 
 def own_covers(book, whole):
     """Of each set that lies in a whole the columns of the whole that hang on it."""
-    return {some: "".join(c for c in whole if does_follow(book, (some, c))) for some in sets_of(whole)}
+    return {some: "".join(column for column in whole if column in covers(book)[some]) for some in sets_of(whole)}
 
 
 def stems_by(covers):

@@ -5,6 +5,7 @@ import unittest
 
 from keytables.books import is_book, is_hanging
 from keytables.covers import cover, follows, shut_sets
+from keytables.desk import Desk
 from keytables.errors import TableError
 from keytables.fills import fill_of, filled, is_fill, is_whole
 from keytables.joins import joined, part
@@ -15,8 +16,11 @@ from keytables.narrow import narrowed
 from keytables.papers import is_paper, paper_of, two_rows
 from keytables.seen import full_table, seen
 from keytables.sets import both, either, is_set, lacked, lies_in
+from keytables.shelf import Shelf
+from keytables.splits import fair_split, first_rough, is_fair, lost, neat_split
 from keytables.stems import stem_book
 from keytables.tables import agreements, first_broken, is_table, keeps
+from keytables.texts import book_text, read_book, read_split, read_table, split_text, table_text
 from things import ALL, BOOKS, NO_BOOKS, NO_HANGINGS, NO_SETS, NO_SPLITS_OF_BDF, NO_TABLES, TABLES
 
 BOOK = ("abc", (("a", "b"), ("b", "c")))
@@ -27,6 +31,59 @@ SPLIT = ("ab", "bc")
 FILL = ((1, 0, 1),)
 SOME = [*NO_SETS, *NO_BOOKS, *NO_HANGINGS, *NO_TABLES, *NO_SPLITS_OF_BDF, *BOOKS, *TABLES, BOOK, TABLE, HANGING, PAPER,
         SPLIT, FILL, "", "a", ALL]
+
+
+
+def shelf():
+    """A shelf with two rows."""
+    told = Shelf(BOOK)
+    told.put((0, 1, 2))
+    told.put((1, 1, 2))
+    return told
+
+
+def new_shelf(book):
+    told = Shelf(book)
+    return told.table(), told.book(), told.deeds()
+
+
+def put(row):
+    return shelf().put(row)
+
+
+def take(row):
+    return shelf().take(row)
+
+
+def turn(row, column, number):
+    return shelf().turn(row, column, number)
+
+
+def hang(hanging):
+    return shelf().hang(hanging)
+
+
+def loose(k):
+    return shelf().loose(k)
+
+
+def together(deeds):
+    return shelf().together(deeds)
+
+
+def having(given):
+    return shelf().having(given)
+
+
+def known(given):
+    return shelf().known(given)
+
+
+def say(line):
+    desk = Desk()
+    desk.say("book a ab: a>b")
+    return desk.say(line)
+
 
 # Each question with good things for its places, the refusals that it may tell, and the kinds of its answers.
 QUESTIONS = [
@@ -68,6 +125,27 @@ QUESTIONS = [
     (is_whole, (BOOK, SPLIT), ["NoBook", "NoSplit"], [bool]),
     (is_fill, (BOOK, SPLIT, FILL), ["NoBook", "NoSplit"], [bool]),
     (fill_of, (BOOK, SPLIT), ["NoBook", "NoSplit"], [tuple, type(None)]),
+    (lost, (BOOK, SPLIT), ["NoBook", "NoSplit"], [list]),
+    (first_rough, (BOOK, "abc"), ["NoBook", "NoSet"], [str, type(None)]),
+    (is_fair, (BOOK, "abc"), ["NoBook", "NoSet"], [bool]),
+    (neat_split, (BOOK,), ["NoBook"], [tuple]),
+    (fair_split, (BOOK,), ["NoBook"], [tuple]),
+    (new_shelf, (BOOK,), ["NoBook"], [tuple]),
+    (put, ((2, 5, 5),), ["NoRow", "There", "Broken"], [type(None)]),
+    (take, ((0, 1, 2),), ["NoRow", "Gone"], [type(None)]),
+    (turn, ((0, 1, 2), "a", 5), ["NoRow", "Gone", "NoColumn", "NoNumber", "There", "Broken"], [type(None)]),
+    (hang, (("c", "b"),), ["NoHanging", "There", "Broken"], [type(None)]),
+    (loose, (1,), ["NoNumber"], [type(None)]),
+    (together, ([("put", (2, 5, 5))],), ["NoDeeds"], [type(None)]),
+    (having, ({"b": 1},), ["NoGiven"], [list]),
+    (known, ({"b": 1},), ["NoGiven"], [dict, type(None)]),
+    (book_text, (BOOK,), ["NoBook"], [str]),
+    (table_text, (TABLE,), ["NoTable"], [str]),
+    (split_text, (BOOK, SPLIT), ["NoBook", "NoSplit"], [str]),
+    (read_book, ("ab: a>b",), ["NoText"], [tuple]),
+    (read_table, ("ab: 1,2",), ["NoText"], [tuple]),
+    (read_split, (BOOK, "ab/bc"), ["NoBook", "NoText"], [tuple]),
+    (say, ("put a 1,2",), ["NoLine"], [str]),
 ]
 
 
@@ -140,6 +218,15 @@ class Told(unittest.TestCase):
                     told.reverse()
                     told.append(None)
                     self.assertEqual(question(*good), ahead)
+
+    def test_what_is_told_in_tuples_has_no_list_or_dict_in_it(self):
+        for question, good, names, kinds in QUESTIONS:
+            parts = [question(*good)]
+            while parts:
+                part = parts.pop()
+                if isinstance(part, tuple):
+                    parts.extend(part)
+                    self.assertFalse([one for one in part if isinstance(one, (list, dict))], question.__name__)
 
 
 if __name__ == "__main__":
