@@ -1,6 +1,6 @@
 """The deeds of a shelf: what is kept, a book and a table with its head, as it is behind each of them.
 
-None of them looks at whether the table keeps the book: of deeds that are done together only the last one may break it.
+None of them looks at whether the table keeps the book: where several are done together that counts at the end alone.
 """
 
 from keytables.books import MOST_HANGINGS, is_column_of, need_hanging

@@ -229,6 +229,12 @@ class NeatSplit(unittest.TestCase):
 
 
 class FairSplit(unittest.TestCase):
+    def test_no_set_lies_in_another_one(self):
+        for book in MANY:
+            for split in [fair_split(book), neat_split(book)]:
+                for one, other in itertools.permutations(split, 2):
+                    self.assertFalse(lies(one, other), (book, split))
+
     def test_some(self):
         self.assertEqual(fair_split(("abc", ())), ("abc",))
         self.assertEqual(fair_split(("ab", (("", "a"),))), ("a", "b"))
@@ -239,6 +245,10 @@ class FairSplit(unittest.TestCase):
     def test_where_no_set_has_a_key_one_comes_to_it(self):
         self.assertEqual(fair_split(("abcd", (("a", "b"), ("c", "d")))), ("ab", "ac", "cd"))
         self.assertEqual(fair_split(("abc", (("a", "b"),))), ("ab", "ac"))
+
+    def test_a_hanging_that_tells_nothing_brings_no_set(self):
+        self.assertEqual(fair_split(("abcd", (("a", "b"), ("a", "c"), ("a", "d"), ("bc", "c")))), ("ab", "ac", "ad"))
+        self.assertEqual(fair_split(("abc", (("", ""), ("a", "b"), ("a", "bc"), ("b", "c")))), ("ab", "bc"))
 
     def test_each_is_a_whole_split_into_fair_sets_that_loses_nothing(self):
         sizes = set()
