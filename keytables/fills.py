@@ -75,8 +75,8 @@ def first_rows(head, split):
 def filled_by_steps(book, split):
     """Make the list of the filled rows, and that of the steps by which they come, each of which changes some row.
 
-    Each step leaves some column with fewer unlike numbers. In 64 rows of eight columns that can be done 504 times at the
-    most, so there are never more steps than a fill paper may have.
+    Each step leaves some column with fewer unlike numbers. In 64 rows of eight columns that can be done 504 times at
+    the most, so there are never more steps than a fill paper may have.
     """
     head, hangings = book
     rows = first_rows(head, split)
